@@ -1,6 +1,8 @@
-"""What several tests need: all small tales, and who is ahead, found by listing orders."""
+"""What several tests need: small and large halves, strange things, and who is ahead, found by listing orders."""
 
 import itertools
+
+from halforder.errors import HalfError
 
 LETTERS = "abcdefghijkl"
 TEN = tuple(LETTERS[:10])
@@ -10,6 +12,26 @@ ELEVEN = tuple(LETTERS[:11])
 RISING_SAYINGS = tuple(itertools.combinations(TEN, 2))
 SIXTY = RISING_SAYINGS + RISING_SAYINGS[:15]
 SIXTY_ONE = SIXTY + RISING_SAYINGS[:1]
+
+NONE = ((), ())
+ONE = (("a",), ())
+FREE = (TEN, ())
+ROW = (TEN, tuple(zip(TEN, TEN[1:])))
+FULL = (TEN[::-1], SIXTY)
+# Of ten names by turns ahead and behind: no chain has three.
+ZIGZAG = (TEN, tuple(zip("acceeggii", "bbddffhhj")))
+# Two and five rows of names, each ahead of those to the right of it and below.
+GRID = (TEN, tuple(zip("abcdfghi", "bcdeghij")) + tuple(zip("abcde", "fghij")))
+# A forest: no name has two bare pairs of which it is the other.
+FOREST = (tuple("jihgfedcba"), tuple(zip("aabbceeg", "bcdhgfij")))
+
+# Plain things that are nothing which is asked for, of whatever half.
+STRANGE = (
+    None, True, False, 0, 1, -1, 10 ** 39, "", "a", "ab", "abc", [], ["a"], ["a", "b"], [["a"], ["b"]], [("a",)],
+    {}, {"a": "b"}, {"a": True}, (None,), (True,), (0,), (1,), ("",), ("zz",), ("A",), (["a"],), ({"a": "b"},), ({},),
+    ([],), ("a", None), ("a", ["b"]), ("a", {}), ("a", "a"), (("a",), ["b"]), (("a",), ()), (("a",), None), ((),),
+    ((), ()), ((("a",),),), (("a", "a"),), (("a",), ("a",)), (("zz",),), (("a",), ("zz",)), ((["a"],),),
+)
 
 
 def subsets(things):
@@ -53,3 +75,53 @@ def small_halves():
 
 def four_name_halves():
     return [tale for tale in four_name_tales() if orders(tale)]
+
+
+def five_name_halves():
+    """Halves of five names: up to what the names are called, each one is among them."""
+    names = ("d", "b", "e", "a", "c")
+    return [(names, sayings) for sayings in subsets(list(itertools.combinations("abcde", 2)))]
+
+
+def patterned(names, times, part):
+    """A half of these names, of which some of the pairs that stand in order are sayings."""
+    pairs = itertools.combinations(range(len(names)), 2)
+    return (names, tuple((names[i], names[j]) for i, j in pairs if (times * i + j * j) % part == 0))
+
+
+def large_halves():
+    """Halves of six to ten names, thick and thin ones."""
+    found = [FREE, ROW, FULL, ZIGZAG, GRID, FOREST]
+    for size in range(6, 11):
+        names = tuple("jchbidgaef"[:size])
+        found.extend(patterned(names, times, part) for times in (1, 3, 4) for part in (2, 3, 5, 7))
+    return found
+
+
+def stands_ahead(row, one, other):
+    return row.index(one) < row.index(other)
+
+
+def put_above(one, other):
+    return (one[0] + other[0], one[1] + other[1] + tuple(itertools.product(one[0], other[0])))
+
+
+def put_beside(one, other):
+    return (one[0] + other[0], one[1] + other[1])
+
+
+def refusal(function, *things):
+    """The refusal that comes, None where something is told."""
+    try:
+        function(*things)
+    except HalfError as refused:
+        return refused
+    return None
+
+
+def strange_deep(depth):
+    """A tuple within a tuple, as deep as plain things may be."""
+    thing = "a"
+    for _ in range(depth):
+        thing = (thing,)
+    return thing

@@ -37,6 +37,10 @@ FORBIDDEN_NAMES = set(
     "copyright credits delattr dir eval exec exit gc getattr globals hasattr help id importlib license locals "
     "methodcaller os quit setattr super vars sys chr".split()
 )
+KEYWORDS = {
+    "sorted": ("key", "reverse"), "min": ("key", "default"), "max": ("key", "default"), "sum": ("start",),
+    "enumerate": ("start",), "zip": ("strict",),
+}
 PLAIN_WORD = re.compile(r"[A-Za-z][A-Za-z0-9_]*\Z")
 
 
@@ -186,6 +190,42 @@ class TestForms(unittest.TestCase):
                 self.assertIsInstance(node.value, (int, str, bool, type(None)), place)
                 if isinstance(node.value, str):
                     self.assertNotIn("%", node.value, place)
+
+
+    def test_powers_have_a_written_exponent(self):
+        for place, node in nodes():
+            if isinstance(node, ast.BinOp) and isinstance(node.op, ast.Pow):
+                self.assertIn(getattr(node.right, "value", None), range(65), place)
+
+    def test_keywords(self):
+        for place, node in nodes():
+            if isinstance(node, ast.Call):
+                allowed = KEYWORDS.get(getattr(node.func, "id", ""), ())
+                for keyword in node.keywords:
+                    self.assertIn(keyword.arg, allowed, place)
+
+    def test_walks_are_walked_on_the_spot(self):
+        for stem, tree in trees():
+            parents = {child: node for node in ast.walk(tree) for child in ast.iter_child_nodes(node)}
+            for node in ast.walk(tree):
+                if isinstance(node, ast.Call) and self.is_walk(node.func):
+                    self.assertTrue(self.walks(parents[node], node), (stem, node.lineno))
+
+    def is_walk(self, function):
+        if isinstance(function, ast.Name):
+            return function.id in ("zip", "enumerate", "reversed", "range")
+        return function.attr in ("items", "keys", "values")
+
+    def walks(self, around, node):
+        if isinstance(around, (ast.For, ast.comprehension)):
+            return around.iter == node
+        if not isinstance(around, ast.Call) or around.args[:1] != [node]:
+            return False
+        if isinstance(around.func, ast.Attribute):
+            return around.func.attr == "join" and isinstance(around.func.value, ast.Constant)
+        if around.func.id in ("min", "max"):
+            return len(around.args) == 1
+        return around.func.id in ("list", "tuple", "dict", "sorted", "sum", "any", "all", "enumerate", "zip")
 
 
 class TestNames(unittest.TestCase):
