@@ -25,6 +25,10 @@ GRID = (TEN, tuple(zip("abcdfghi", "bcdeghij")) + tuple(zip("abcde", "fghij")))
 # A forest: no name has two bare pairs of which it is the other.
 FOREST = (tuple("jihgfedcba"), tuple(zip("aabbceeg", "bcdhgfij")))
 
+# One order less than are listed at most, and one more.
+LISTED_719 = (tuple("hgfedcba"), tuple(zip("aabcceee", "bgdfgfgh")))
+UNLISTED_721 = (tuple("ihgfedcba"), tuple(zip("abbcdefg", "ceigffhh")))
+
 # Plain things that are nothing which is asked for, of whatever half.
 STRANGE = (
     None, True, False, 0, 1, -1, 10 ** 39, "", "a", "ab", "abc", [], ["a"], ["a", "b"], [["a"], ["b"]], [("a",)],
@@ -98,6 +102,16 @@ def large_halves():
     return found
 
 
+def closed_by_sayings(half):
+    """Who is ahead of whom, by going on from sayings until nothing new comes."""
+    pairs = set(half[1])
+    while True:
+        more = {(a, d) for a, b in pairs for c, d in pairs if b == c} - pairs
+        if not more:
+            return pairs
+        pairs |= more
+
+
 def stands_ahead(row, one, other):
     return row.index(one) < row.index(other)
 
@@ -125,3 +139,16 @@ def strange_deep(depth):
     for _ in range(depth):
         thing = (thing,)
     return thing
+
+
+def wrong_orders(order):
+    """Things that are like an order of three names or more, but none."""
+    one, other = order[0], order[1]
+    return [
+        list(order), "".join(order), {name: True for name in order}, dict(enumerate(order)), (order,), [order],
+        order[1:], order[:-1], (), order + (one,), order + ("zz",), (one,) + order, (one, one) + order[2:],
+        ("zz",) + order[1:], order[:-1] + ("zz",), (one.upper(),) + order[1:], ([one],) + order[1:],
+        ((one,),) + order[1:], ({one: other},) + order[1:], (None,) + order[1:], (True,) + order[1:],
+        (0,) + order[1:], order[:-1] + (None,), order[:-1] + ([],), order[:-1] + ({},), tuple(range(len(order))),
+        tuple([name] for name in order), strange_deep(90), order[:-1] + (strange_deep(89),),
+    ]

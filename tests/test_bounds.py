@@ -26,16 +26,6 @@ def is_forest(half):
     return len(others) == len(set(others))
 
 
-def closed_by_sayings(half):
-    """Who is ahead of whom, by going on from sayings until nothing new comes."""
-    pairs = set(half[1])
-    while True:
-        more = {(a, d) for a, b in pairs for c, d in pairs if b == c} - pairs
-        if not more:
-            return pairs
-        pairs |= more
-
-
 def all_covers(half):
     """Covers of which each chain is some names in a row of each part of the names."""
     found = []
@@ -103,9 +93,10 @@ class TestByCover(unittest.TestCase):
 
     def test_what_is_no_cover(self):
         things = [
-            (), (("d", "c"), ("a",)), (("d", "c"), ("a", "b"), ("a",)), (("c", "d"), ("a", "b")), (("d", "c"), ("b", "a")),
-            (("d", "c"), ("a", "b"), ()), (("d", "c"), ("a", "z")), (("d", "c"), ("a", "b"), ("z",)), ("d", "c", "a", "b"),
-            [("d", "c"), ("a", "b")], (["d", "c"], ("a", "b")), ("dc", "ab"), {("d", "c"): True, ("a", "b"): True},
+            (), (("d", "c"), ("a",)), (("d", "c"), ("a", "b"), ("a",)), (("c", "d"), ("a", "b")),
+            (("d", "c"), ("b", "a")), (("d", "c"), ("a", "b"), ()), (("d", "c"), ("a", "z")),
+            (("d", "c"), ("a", "b"), ("z",)), ("d", "c", "a", "b"), [("d", "c"), ("a", "b")],
+            (["d", "c"], ("a", "b")), ("dc", "ab"), {("d", "c"): True, ("a", "b"): True},
             (("d", "c"), ("a", "b"), None), (("d", "a"), ("b", "c")), helping.strange_deep(90),
         ]
         for thing in things + list(helping.STRANGE):
@@ -134,7 +125,7 @@ class TestByBehind(unittest.TestCase):
 
     def test_the_least_whole_number(self):
         for half in ALL:
-            pairs = closed_by_sayings(half)
+            pairs = helping.closed_by_sayings(half)
             divisor = math.prod(1 + sum(one == name for one, other in pairs) for name in half[0])
             told = by_behind(half)
             self.assertGreaterEqual(told * divisor, math.factorial(len(half[0])), half)
@@ -159,7 +150,8 @@ class TestKindsAndNothingChanged(unittest.TestCase):
                 self.assertIs(type(told), int)
 
     def test_what_is_handed_in_stays(self):
-        for thing in ([("d", "c"), ["a", "b"]], (("d", "c"), {"a": ["b"]}), (("d", "c"), ("a", "b")), {"d": [], "c": {}}):
+        right = (("d", "c"), ("a", "b"))
+        for thing in ([("d", "c"), ["a", "b"]], (("d", "c"), {"a": ["b"]}), right, {"d": [], "c": {}}):
             half = copy.deepcopy(HALF)
             kept = copy.deepcopy(thing)
             first = type(helping.refusal(by_cover, half, thing))

@@ -78,8 +78,9 @@ class TestIsCover(unittest.TestCase):
 
     def test_names_left_out_twice_or_strange(self):
         for thing in (
-            (), (("d", "c"), ("a",)), (("a", "b", "c"),), (("d", "c"), ("a", "b", "c")), (("d", "c"), ("a", "b"), ("a",)),
-            (("d", "c"), ("a", "b"), ("d", "c")), (("d", "c"), ("a", "b"), ("z",)), (("d", "c"), ("a", "b", "z")),
+            (), (("d", "c"), ("a",)), (("a", "b", "c"),), (("d", "c"), ("a", "b", "c")),
+            (("d", "c"), ("a", "b"), ("a",)), (("d", "c"), ("a", "b"), ("d", "c")),
+            (("d", "c"), ("a", "b"), ("z",)), (("d", "c"), ("a", "b", "z")),
             (("d", "c"), ("a", "a", "b")), (("d", "c"), ("a", "z")),
         ):
             self.assertIs(is_cover(HALF, thing), False, thing)
