@@ -152,3 +152,25 @@ def wrong_orders(order):
         (0,) + order[1:], order[:-1] + (None,), order[:-1] + ([],), order[:-1] + ({},), tuple(range(len(order))),
         tuple([name] for name in order), strange_deep(90), order[:-1] + (strange_deep(89),),
     ]
+
+
+def variants(thing):
+    """Things in the place of one: other kinds, more, fewer, twice, turned about, lists for tuples."""
+    yield from (None, True, False, 0, 1, 2, -1, 10 ** 39, "", "a", "b", "c", "row", "last", "A", [], {}, (), (0,))
+    yield from (("a",), [thing], (thing,), {"a": thing})
+    if isinstance(thing, tuple):
+        yield from (list(thing), dict(enumerate(thing)), thing + thing, thing[::-1], thing + (0,), thing + ("a",))
+        for place in range(len(thing)):
+            yield thing[:place] + thing[place + 1:]
+            yield thing[:place] + thing[place:place + 1] + thing[place:]
+    if type(thing) is int:
+        yield from (thing + 1, thing - 1, bool(thing), str(thing))
+
+
+def changed(thing):
+    """All variants of a thing and of each thing in it, at every depth."""
+    yield from variants(thing)
+    if isinstance(thing, tuple):
+        for place, part in enumerate(thing):
+            for other in changed(part):
+                yield thing[:place] + (other,) + thing[place + 1:]

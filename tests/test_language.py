@@ -136,6 +136,18 @@ class TestTops(unittest.TestCase):
             self.assertTrue(free, left)
             left = {stem: left[stem] for stem in left if stem not in free}
 
+    def test_checkers_draw_from_nothing_that_lists_counts_or_searches(self):
+        drawn = draws()
+        checkers = [stem for stem in drawn if stem.endswith("checker")]
+        self.assertIn("countchecker", checkers)
+        for stem in checkers:
+            seen, waiting = set(), [stem]
+            while waiting:
+                here = waiting.pop()
+                seen.add(here)
+                waiting += [other for other in drawn[here] if other not in seen]
+            self.assertLessEqual(seen - set(checkers), {"closures", "errors", "halves", "kinds", "names", "reaches"})
+
 
 class TestForms(unittest.TestCase):
     def test_statements_and_expressions(self):
