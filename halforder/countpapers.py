@@ -1,25 +1,38 @@
 """Count papers."""
 
 from halforder.closures import is_row
-from halforder.counting import Ways
-from halforder.joins import only
 
 
-# The names left that may stand next are just those that none of them is ahead of.
-def first_rule(ways, left, numbers):
-    return ("first", tuple([numbers[left - ways.bits[name]] for name in ways.free_names(left)]))
+def firsts(half):
+    return [name for name in half[0] if all([saying[1] != name for saying in half[1]])]
 
 
-# A row for each set of names that some names ahead may leave: 1,024 of ten names at most. Each one's ways on
-# come to be known behind those that it rests on: so in this order rows speak of rows ahead of them alone.
+# Through a name that none is ahead of no way leads: so nothing but its own sayings goes with it.
+def without_first(half, name):
+    names = tuple([other for other in half[0] if other != name])
+    return (names, tuple([saying for saying in half[1] if saying[0] != name]))
+
+
+# Rows of a count paper, each half just once: 1,023 for ten names at most, one for each set of names but none.
+class CountRows:
+    def __init__(self):
+        self.rows = []
+        self.known = {}
+
+    # The number of the half's row, which is written behind those that it rests on, if it isn't there.
+    def row_of(self, half):
+        if half not in self.known:
+            row = (half, ("row",), 1) if is_row(half) else self.first_row(half)
+            self.known[half] = len(self.rows)
+            self.rows.append(row)
+        return self.known[half]
+
+    def first_row(self, half):
+        refs = tuple([self.row_of(without_first(half, name)) for name in firsts(half)])
+        return (half, ("first", refs), sum([self.rows[ref][2] for ref in refs]))
+
+
 def count_paper(half):
-    ways = Ways(half)
-    ways.ways_on(ways.full)
-    numbers = {}
-    rows = []
-    for left in ways.known:
-        rest = only(half, tuple([name for name in half[0] if ways.bits[name] & left]))
-        rule = ("row",) if is_row(rest) else first_rule(ways, left, numbers)
-        numbers[left] = len(rows)
-        rows.append((rest, rule, ways.known[left]))
-    return tuple(rows)
+    counts = CountRows()
+    counts.row_of(half)
+    return tuple(counts.rows)

@@ -1,5 +1,6 @@
 """What several tests need: small and large halves, strange things, and who is ahead, found by listing orders."""
 
+import functools
 import itertools
 
 from halforder.errors import HalfError
@@ -28,6 +29,17 @@ FOREST = (tuple("jihgfedcba"), tuple(zip("aabbceeg", "bcdhgfij")))
 # One order less than are listed at most, and one more.
 LISTED_719 = (tuple("hgfedcba"), tuple(zip("aabcceee", "bgdfgfgh")))
 UNLISTED_721 = (tuple("ihgfedcba"), tuple(zip("abbcdefg", "ceigffhh")))
+
+# A fence that closes, d over a, a under b under e, e over c, c under d: eight orders, but three askings are too few.
+CLOSED_FENCE = (("d", "b", "e", "a", "c"), (("b", "e"), ("a", "d"), ("a", "b"), ("c", "d"), ("c", "e")))
+OPEN_FENCE = (tuple("abcde"), tuple(zip("acce", "bbdd")))
+# Sixty orders, of which eight askings are needed: the longest bound papers were found for such.
+EIGHT_ASKINGS = (
+    (TEN, tuple(zip("aabbccddeffghh", "bcdfefehgghiij"))), (TEN[::-1], tuple(zip("aabbccddeffgh", "dfcdefejggjhi"))),
+)
+# As many orders as least plans are told of, and one more.
+SIXTY_ORDERS = (("e", "a", "d", "b", "c"), (("b", "e"),))
+SIXTY_ONE_ORDERS = (tuple("abcdefghi"), tuple(zip("aabcdddeefgg", "fgcdefghiihi")))
 
 # Plain things that are nothing which is asked for, of whatever half.
 STRANGE = (
@@ -174,3 +186,74 @@ def changed(thing):
         for place, part in enumerate(thing):
             for other in changed(part):
                 yield thing[:place] + (other,) + thing[place + 1:]
+
+
+def whole(thing):
+    return type(thing) is int
+
+
+def unlike_names(thing):
+    if type(thing) is not tuple or not all(type(name) is str and name.isalpha() for name in thing):
+        return False
+    return all(name.islower() and len(name) < 9 for name in thing) and len(set(thing)) == len(thing)
+
+
+def half_by_words(thing):
+    """The closed pairs of a half as a set, with its names; None of what is none."""
+    if type(thing) is not tuple or len(thing) != 2 or not unlike_names(thing[0]) or len(thing[0]) > 10:
+        return None
+    if type(thing[1]) is not tuple or len(thing[1]) > 60:
+        return None
+    for saying in thing[1]:
+        if type(saying) is not tuple or len(saying) != 2 or not all(type(name) is str for name in saying):
+            return None
+        if not set(saying) <= set(thing[0]):
+            return None
+    pairs = closed_by_sayings(thing)
+    return None if any(one == other for one, other in pairs) else (thing[0], pairs)
+
+
+def same(one, other):
+    return set(one[0]) == set(other[0]) and one[1] == other[1]
+
+
+def said_more(half, pair):
+    return (half[0], closed_by_sayings((half[0], tuple(half[1]) + (pair,))))
+
+
+def plan_by_pairs(half, pairs):
+    """A plan that asks the first of the pairs that is untold, and so on; pairs of all names lead to each order."""
+    told = closed_by_sayings(half)
+    for one, other in pairs:
+        if one != other and not {(one, other), (other, one)} & told:
+            parts = [plan_by_pairs((half[0], tuple(told) + (pair,)), pairs) for pair in ((one, other), (other, one))]
+            return ("ask", one, other) + tuple(parts)
+    return ("end", tuple(sorted(half[0], key=lambda name: sum(other == name for one, other in told))))
+
+
+def depth_by_words(plan):
+    return 0 if plan[0] == "end" else 1 + max(depth_by_words(plan[3]), depth_by_words(plan[4]))
+
+
+def ends_of(plan, askings=0):
+    """The ends of a plan from first to second, each with how many askings lead to it."""
+    if plan[0] == "end":
+        return [(plan[1], askings)]
+    return ends_of(plan[3], askings + 1) + ends_of(plan[4], askings + 1)
+
+
+def parted(rows):
+    """For each pair of names that these orders leave untold, rising: the pair and the orders of both answers."""
+    found = []
+    for one, other in itertools.combinations(sorted(min(rows)), 2):
+        first = frozenset(row for row in rows if stands_ahead(row, one, other))
+        if first and first != rows:
+            found.append(((one, other), first, rows - first))
+    return found
+
+
+@functools.lru_cache(maxsize=None)
+def least_depth(rows):
+    """The least depth of a plan that leads to each of these orders, by trying all; rows: a frozenset of orders."""
+    parts = parted(rows)
+    return 1 + min(max(least_depth(first), least_depth(second)) for pair, first, second in parts) if parts else 0

@@ -38,33 +38,8 @@ BY_CALLED = BY_ABOVE + (((("x", "a", "y"), (("y", "a"), ("x", "a"))), ("called",
 RIGHT = (BY_ROW, BY_ASK, BY_LAST, BY_FIRST, BY_ABOVE, BY_BESIDE, BY_TURNED, BY_CALLED)
 
 
-def whole(thing):
-    return type(thing) is int
-
-
-def unlike_names(thing):
-    if type(thing) is not tuple or not all(type(name) is str and name.isalpha() for name in thing):
-        return False
-    return all(name.islower() and len(name) < 9 for name in thing) and len(set(thing)) == len(thing)
-
-
-def half_by_words(thing):
-    """The closed pairs of a half as a set, with its names; None of what is none."""
-    if type(thing) is not tuple or len(thing) != 2 or not unlike_names(thing[0]) or len(thing[0]) > 10:
-        return None
-    if type(thing[1]) is not tuple or len(thing[1]) > 60:
-        return None
-    for saying in thing[1]:
-        if type(saying) is not tuple or len(saying) != 2 or not all(type(name) is str for name in saying):
-            return None
-        if not set(saying) <= set(thing[0]):
-            return None
-    pairs = helping.closed_by_sayings(thing)
-    return None if any(one == other for one, other in pairs) else (thing[0], pairs)
-
-
 def whole_tuple(thing):
-    return type(thing) is tuple and all(whole(part) for part in thing)
+    return type(thing) is tuple and all(helping.whole(part) for part in thing)
 
 
 def rule_fits_kinds(rule, names):
@@ -82,23 +57,15 @@ def rule_fits_kinds(rule, names):
         return len(rest) == 2 and whole_tuple(rest)
     if word == "turned":
         return len(rest) == 1 and whole_tuple(rest)
-    return word == "called" and len(rest) == 2 and unlike_names(rest[0]) and whole(rest[1])
-
-
-def same(one, other):
-    return set(one[0]) == set(other[0]) and one[1] == other[1]
+    return word == "called" and len(rest) == 2 and helping.unlike_names(rest[0]) and helping.whole(rest[1])
 
 
 def left_without(half, name):
     return (tuple(n for n in half[0] if n != name), {pair for pair in half[1] if name not in pair})
 
 
-def said(half, pair):
-    return (half[0], helping.closed_by_sayings((half[0], tuple(half[1]) + (pair,))))
-
-
 def refs(rule):
-    return [ref for part in rule[1:] for ref in (part if whole_tuple(part) else (part,)) if whole(ref)]
+    return [ref for part in rule[1:] for ref in (part if whole_tuple(part) else (part,)) if helping.whole(ref)]
 
 
 def half_and_number(half, rule, spoken):
@@ -112,32 +79,33 @@ def half_and_number(half, rule, spoken):
         one, other = rule[1:3]
         if one == other or {(one, other), (other, one)} & pairs:
             return False, None
-        return same(halves[0], said(half, (one, other))) and same(halves[1], said(half, (other, one))), sum(numbers)
+        sides = [helping.said_more(half, pair) for pair in ((one, other), (other, one))]
+        return all(helping.same(*both) for both in zip(halves, sides)), sum(numbers)
     if rule[0] in ("last", "first"):
         side = 0 if rule[0] == "last" else 1
         ends = [name for name in names if all(pair[side] != name for pair in pairs)]
-        fits = len(ends) == len(halves) and all(same(h, left_without(half, end)) for h, end in zip(halves, ends))
-        return fits and names != (), sum(numbers)
+        fits = all(helping.same(told, left_without(half, end)) for told, end in zip(halves, ends))
+        return fits and names != () and len(ends) == len(halves), sum(numbers)
     if rule[0] in ("above", "beside"):
         one, other = halves
         if set(one[0]) & set(other[0]) or not one[0] or not other[0] or len(one[0]) + len(other[0]) > 10:
             return False, None
         between = set(itertools.product(one[0], other[0])) if rule[0] == "above" else set()
         ways = 1 if rule[0] == "above" else math.comb(len(names), len(one[0]))
-        return same(half, (one[0] + other[0], one[1] | other[1] | between)), math.prod(numbers) * ways
+        return helping.same(half, (one[0] + other[0], one[1] | other[1] | between)), math.prod(numbers) * ways
     if rule[0] == "turned":
-        return same(half, (halves[0][0], {(b, a) for a, b in halves[0][1]})), numbers[0]
+        return helping.same(half, (halves[0][0], {(b, a) for a, b in halves[0][1]})), numbers[0]
     if len(rule[1]) != len(halves[0][0]):
         return False, None
     new = dict(zip(halves[0][0], rule[1]))
-    return same(half, (rule[1], {(new[a], new[b]) for a, b in halves[0][1]})), numbers[0]
+    return helping.same(half, (rule[1], {(new[a], new[b]) for a, b in halves[0][1]})), numbers[0]
 
 
 def word_by_words(row, done):
-    if type(row) is not tuple or len(row) != 3 or half_by_words(row[0]) is None or not whole(row[2]) or row[2] < 0:
+    if type(row) is not tuple or len(row) != 3 or not helping.whole(row[2]) or row[2] < 0:
         return "row"
-    half = half_by_words(row[0])
-    if not rule_fits_kinds(row[1], half[0]):
+    half = helping.half_by_words(row[0])
+    if half is None or not rule_fits_kinds(row[1], half[0]):
         return "row"
     if not all(0 <= ref < len(done) for ref in refs(row[1])):
         return "ref"
@@ -153,7 +121,7 @@ def fault_by_words(rows):
         word = word_by_words(row, done)
         if word is not None:
             return (word, place)
-        done.append((half_by_words(row[0]), row[2]))
+        done.append((helping.half_by_words(row[0]), row[2]))
     return None
 
 
@@ -491,8 +459,9 @@ class TestAgainstTheWords(PapersCase):
             if not free:
                 rows.append((half, ("row",), 1))
                 continue
-            sides = [said((half[0], told), pair) for pair in (free[0], free[0][::-1])]
-            places = [[k for k, row in enumerate(rows) if same(half_by_words(row[0]), side)][0] for side in sides]
+            sides = [helping.said_more((half[0], told), pair) for pair in (free[0], free[0][::-1])]
+            ready = [helping.half_by_words(row[0]) for row in rows]
+            places = [[helping.same(side, other) for other in ready].index(True) for side in sides]
             rows.append((half, ("ask",) + free[0] + tuple(places), len(helping.orders(half))))
         return tuple(rows)
 
@@ -500,7 +469,7 @@ class TestAgainstTheWords(PapersCase):
         rows = self.small_rows()
         self.assertEqual(len(rows), 32)
         self.assertIsNone(rows_fault(rows))
-        done = [(half_by_words(row[0]), row[2]) for row in rows]
+        done = [(helping.half_by_words(row[0]), row[2]) for row in rows]
         places = range(len(rows))
         rules = [("turned", i) for i in places]
         rules += [(word, i, j) for word in ("above", "beside") for i in places for j in places]

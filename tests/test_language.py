@@ -290,6 +290,19 @@ class TestNames(unittest.TestCase):
             if isinstance(node, ast.Call) and isinstance(node.func, ast.Attribute):
                 self.assertIn(node.func.attr, ALLOWED_METHODS | own, place)
 
+    def test_no_name_is_a_method_here_and_a_value_there(self):
+        methods, values = set(), set()
+        for place, node in nodes():
+            if isinstance(node, ast.ClassDef):
+                methods |= {part.name for part in node.body if isinstance(part, ast.FunctionDef)}
+            if isinstance(node, ast.Attribute) and isinstance(node.ctx, ast.Store):
+                self.assertIsInstance(node.value, ast.Name, place)
+                values.add(node.attr)
+        self.assertEqual(methods & values, set())
+        taken = set(dir("")) | set(dir(0)) | set(dir([])) | set(dir({})) | set(dir(set())) | set(dir(b""))
+        allowed = set("count index title find get join lower upper split strip copy add".split())
+        self.assertEqual((values - allowed) & taken, set())
+
     def test_sets_are_not_kept(self):
         for stem, tree in trees():
             parents = {child: node for node in ast.walk(tree) for child in ast.iter_child_nodes(node)}

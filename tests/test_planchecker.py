@@ -18,23 +18,6 @@ TURNED = ("ask", "c", "a", CAB, ("ask", "b", "c", ABC, ACB))
 FREE_THREE = (("c", "a", "b"), ())
 
 
-def plan_by_pairs(half, pairs):
-    """A plan that asks the first of the pairs that is untold, and so on; pairs of all names lead to each order."""
-    rows = helping.orders(half)
-    if len(rows) == 1:
-        return ("end", rows[0])
-    for one, other in pairs:
-        first = [row for row in rows if helping.stands_ahead(row, one, other)]
-        if 0 < len(first) < len(rows):
-            parts = [plan_by_pairs((half[0], half[1] + (pair,)), pairs) for pair in ((one, other), (other, one))]
-            return ("ask", one, other) + tuple(parts)
-    raise AssertionError(half)
-
-
-def depth_by_words(plan):
-    return 0 if plan[0] == "end" else 1 + max(depth_by_words(plan[3]), depth_by_words(plan[4]))
-
-
 def word_by_words(rows, names, plan):
     """The word that is due of a plan, by the orders come to."""
     if type(plan) is not tuple or len(plan) not in (2, 5) or type(plan[0]) is not str:
@@ -94,15 +77,15 @@ class TestRightPlans(PlansCase):
         for half in helping.small_halves() + helping.four_name_halves()[::5]:
             pairs = list(itertools.permutations(half[0], 2))
             for asked in (pairs, pairs[::-1], pairs[1::2] + pairs[::2]):
-                plan = plan_by_pairs(half, asked)
-                self.check_right(half, plan, depth_by_words(plan))
+                plan = helping.plan_by_pairs(half, asked)
+                self.check_right(half, plan, helping.depth_by_words(plan))
 
     def test_plans_of_ten_names(self):
         across = (("a", "f"), ("e", "j"))
         for sayings in (helping.ROW[1][1:], helping.ROW[1][:4] + helping.ROW[1][5:] + across, helping.GRID[1]):
             half = (helping.TEN, sayings)
-            plan = deep_plan(half, itertools.permutations(helping.TEN, 2))
-            self.check_right(half, plan, depth_by_words(plan))
+            plan = helping.plan_by_pairs(half, list(itertools.permutations(helping.TEN, 2)))
+            self.check_right(half, plan, helping.depth_by_words(plan))
 
     def test_one_name_beside_a_row_of_nine(self):
         # Asked from the row's beginning, and from its end.
@@ -115,17 +98,6 @@ class TestRightPlans(PlansCase):
             from_last = ("ask", "a", helping.TEN[place], from_last, ("end", rows[place]))
         self.check_right(half, from_first, 9)
         self.check_right(half, from_last, 9)
-
-
-def deep_plan(half, pairs):
-    """A plan by pairs, where there are too many rows of names to try them all."""
-    asked = list(pairs)
-    told = helping.closed_by_sayings(half)
-    for one, other in asked:
-        if one != other and not {(one, other), (other, one)} & told:
-            parts = [deep_plan((half[0], tuple(told) + (pair,)), asked) for pair in ((one, other), (other, one))]
-            return ("ask", one, other) + tuple(parts)
-    return ("end", tuple(sorted(half[0], key=lambda name: sum(other == name for one, other in told))))
 
 
 class TestShape(PlansCase):
@@ -221,7 +193,7 @@ class TestTheFirstFault(PlansCase):
             for thing in helping.changed(plan):
                 due = fault_by_words(rows, half[0], thing)
                 if due is None:
-                    self.check_right(half, thing, depth_by_words(thing))
+                    self.check_right(half, thing, helping.depth_by_words(thing))
                 else:
                     self.check_word(due[0], due[1], half, thing)
 
@@ -238,7 +210,7 @@ class TestTheFirstFault(PlansCase):
 
     def test_parts_of_a_right_plan_exchanged(self):
         pairs = list(itertools.permutations("cab", 2))
-        plan = plan_by_pairs(FREE_THREE, pairs)
+        plan = helping.plan_by_pairs(FREE_THREE, pairs)
         rows = helping.orders(FREE_THREE)
         parts = [plan, plan[3], plan[4], plan[3][3], plan[3][4], plan[4][3], plan[4][4]]
         for first, second in itertools.product(parts, repeat=2):
