@@ -1,10 +1,10 @@
 """The checker of bound papers: it looks at them row by row, the rows of counts first."""
 
-from halforder.closures import alike, behind_each
+from halforder.closures import alike, behind_each, untold_of
 from halforder.countchecker import rows_fault
 from halforder.errors import NoBound
 from halforder.kinds import is_tuple_of, is_whole
-from halforder.reaches import reach_of, reach_said, untold_of
+from halforder.reaches import reach_of, reach_said
 
 MOST_BOUND_ROWS = 6000
 MOST_LEAST = 200

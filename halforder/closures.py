@@ -61,13 +61,17 @@ def are_untold(reach, one, other):
     return other not in reach[one] and one not in reach[other]
 
 
-def untold(half):
-    names = half[0]
-    reach = behind_each(half)
+# The names of a reach come in the half's order, and so the pairs rise.
+def untold_of(reach):
+    names = list(reach)
     pairs = []
     for place, one in enumerate(names):
         pairs.extend([(one, other) for other in names[place + 1:] if are_untold(reach, one, other)])
     return tuple(pairs)
+
+
+def untold(half):
+    return untold_of(behind_each(half))
 
 
 def is_row(half):

@@ -21,15 +21,6 @@ def are_two_untold(reach, one, other):
     return one in reach and other in reach and one != other and are_untold(reach, one, other)
 
 
-# In their order, as closures tells them of a half.
-def untold_of(reach):
-    names = list(reach)
-    pairs = []
-    for place, one in enumerate(names):
-        pairs.extend([(one, other) for other in names[place + 1:] if are_untold(reach, one, other)])
-    return pairs
-
-
 # Without a ring each pair is told one way about at most: so all are told where as many are told as there are.
 def is_row_of(reach):
     return 2 * sum([len(reach[name]) for name in reach]) == len(reach) * (len(reach) - 1)
