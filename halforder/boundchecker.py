@@ -10,10 +10,10 @@ MOST_BOUND_ROWS = 6000
 MOST_LEAST = 200
 
 
-# How many ends a plan so deep has at most: each asking makes two out of one.
-def most_ends(depth):
+# 2 * 2 * .. so many times: a plan so deep has so many ends at most, since each asking makes two out of one.
+def two_to(times):
     found = 1
-    for step in range(depth):
+    for step in range(times):
         found = found * 2
     return found
 
@@ -74,7 +74,7 @@ class Looked:
         if least == 0:
             return False
         if rule[0] == "many":
-            return self.counts[rule[1]][2] > most_ends(least - 1)
+            return self.counts[rule[1]][2] > two_to(least - 1)
         return all([self.leasts[answer[1]] >= least - 1 for answer in rule[1]])
 
     # The word that is due of the next row, or None: then it is done.

@@ -1,6 +1,6 @@
 """Least plans: no plan is less deep, and a bound paper shows it."""
 
-from halforder.boundchecker import most_ends
+from halforder.boundchecker import two_to
 from halforder.closures import untold
 from halforder.counting import count
 from halforder.countpapers import CountRows
@@ -37,7 +37,7 @@ class Search:
     def __init__(self, start):
         self.start = start
         self.orders = all_orders(start)
-        self.full = most_ends(len(self.orders)) - 1
+        self.full = two_to(len(self.orders)) - 1
         self.pairs = untold(start)
         self.ones = [bits_with(self.orders, pair) for pair in self.pairs]
         self.plans = {}
@@ -50,7 +50,7 @@ class Search:
 
     # A plan of these orders that is at most so deep, None where there is none.
     def plan_within(self, bits, depth):
-        if how_many_bits(bits) > most_ends(depth) or self.leasts.get(bits, 0) > depth:
+        if how_many_bits(bits) > two_to(depth) or self.leasts.get(bits, 0) > depth:
             return None
         if bits not in self.plans or self.plans[bits][0] > depth:
             plan = self.searched_plan(bits, depth)
@@ -106,7 +106,7 @@ class BoundRows:
     def rule_for(self, bits, least):
         if least == 0:
             return ("none",)
-        if how_many_bits(bits) > most_ends(least - 1):
+        if how_many_bits(bits) > two_to(least - 1):
             return ("many", self.counts.row_of(self.search.half_of(bits)))
         return ("asks", tuple([self.answer_for(part, least - 1) for part in self.search.askings(bits)]))
 
